@@ -1,0 +1,1 @@
+"""Luckwright: exact chances, trials, walks, plans and draws."""

@@ -1,0 +1,88 @@
+"""Tests that each name of the interface stands in its own file with its own arguments."""
+
+import ast
+import importlib
+import inspect
+import unittest
+from pathlib import Path
+
+PACKAGE = Path(__file__).resolve().parent.parent / "luckwright"
+
+# Each def that the document's interface lists, a class's methods behind its name and a dot.
+INTERFACE = {
+    "errors": """ChanceFault BadPart BadSpread BadTree BadPaper BadSize BadText BadStore NoChance NoSuch""",
+    "parts": """
+        shared(one, other)
+        part(top, low=1)
+        plus(one, other)
+        minus(one, other)
+        times(one, other)
+        over(one, other)
+        is_less(one, other)
+        lesser(one, other)
+        greater(one, other)
+        total(parts)
+        product(parts)
+        power(one, count)
+        raised(number, count)
+        check_chance(one)
+        other_way(one)
+        least_of(parts)
+        greatest_of(parts)
+        told(one)
+    """,
+    "counts": """
+        check_count(many)
+        factorial(many)
+        choose(many, few)
+        falling(many, few)
+        split_ways(sizes)
+        none_home(many)
+        onto(many, few)
+        lots(many, few)
+        sums(many, few)
+        parts_of(many, most)
+        cycles(many, few)
+        crossings(many)
+        ahead_ways(yes, no)
+    """,
+}
+
+
+def defined(module):
+    """Return the names that a file defines by def and class, a class's methods behind its name and a dot."""
+    found = []
+    for node in ast.parse((PACKAGE / (module + ".py")).read_text()).body:
+        if isinstance(node, (ast.FunctionDef, ast.ClassDef)):
+            found.append(node.name)
+        if isinstance(node, ast.ClassDef):
+            found.extend(node.name + "." + inner.name for inner in node.body if isinstance(inner, ast.FunctionDef))
+    return found
+
+
+def signature_of(module, name):
+    """Return the arguments of a def as they are written, without a method's own object."""
+    found = importlib.import_module("luckwright." + module)
+    for word in name.split("."):
+        found = getattr(found, word)
+    arguments = list(inspect.signature(found).parameters.values())
+    if "." in name:
+        arguments = arguments[1:]
+    return "(" + ", ".join(str(argument) for argument in arguments) + ")"
+
+
+class InterfaceTest(unittest.TestCase):
+    def test_each_def_stands_in_its_file_with_its_arguments(self):
+        for module, text in INTERFACE.items():
+            names = defined(module)
+            for row in text.strip().splitlines():
+                name, sign, arguments = row.strip().partition("(")
+                for word in name.split():
+                    with self.subTest(module=module, name=word):
+                        self.assertIn(word, names)
+                if sign:
+                    self.assertEqual(signature_of(module, name), sign + arguments)
+
+    def test_each_file_has_words_of_its_own(self):
+        for path in PACKAGE.glob("*.py"):
+            self.assertTrue(ast.get_docstring(ast.parse(path.read_text())), path.name)
