@@ -46,6 +46,68 @@ INTERFACE = {
         crossings(many)
         ahead_ways(yes, no)
     """,
+    "spreads": """
+        Spread.__init__(weights)
+        Spread.numbers()
+        Spread.chance(value)
+        Spread.chance_of(test)
+        Spread.up_to(value)
+        Spread.mean()
+        Spread.moment(count)
+        Spread.scatter()
+        Spread.middle()
+        Spread.likeliest()
+        Spread.given(test)
+        Spread.through(change)
+        Spread.shown()
+        sure(value)
+        even(values)
+        together(one, other, change)
+        added(one, other)
+        added_often(one, many)
+        greatest(one, other)
+        least(one, other)
+        mixed(spreads, weights)
+        beats(one, other)
+        taken_away(whole, one)
+        from_chances(rows)
+    """,
+    "dice": """
+        die(sides)
+        rolls(many, sides)
+        kept(many, sides, keep, best=True)
+        laid(states, many, keep, side, last)
+        ways(many, few)
+        again(spread, test)
+        bursting(sides, most)
+        mixed_in(spread, side, more)
+        hits(many, sides, least)
+        read(text)
+        term(word)
+        number(word)
+        pool(spreads)
+    """,
+    "trees": """
+        check_tree(tree)
+        worth(tree)
+        plan(tree)
+        worth_by(tree, steps)
+        values_of(tree)
+        inner_trees(tree)
+        check_plan(tree, steps, paper)
+        check_values(tree, paper)
+        chance_of(tree, steps, test)
+        surest(tree, test)
+        all_plans(tree)
+        news_worth(choices)
+        size_of(tree)
+    """,
+    "lines": """
+        solved(rows, values)
+        by_row(row, values)
+        check_rows(rows)
+        step(start, rows)
+    """,
 }
 
 
