@@ -108,6 +108,65 @@ INTERFACE = {
         check_rows(rows)
         step(start, rows)
     """,
+    "walks": """
+        Walk.__init__(rows)
+        Walk.after(place, count)
+        Walk.reached(place)
+        Walk.rings()
+        Walk.closed()
+        Walk.period(place)
+        Walk.long_run()
+        Walk.ends_in(goals)
+        Walk.steps_to(goals)
+        Walk.is_fair_back()
+        check_ends(walk, goals, chances)
+        pooled(walk, lots)
+        back(walk)
+        visits(walk, place, count)
+    """,
+    "queues": """
+        queue(comes, goes, room)
+        lost(comes, goes, room)
+        waiting(comes, goes, room)
+        least_room(comes, goes, most, chance)
+        children(spread, count)
+        gone_by(spread, count)
+        series_at(spread, chance)
+        dies_out(spread)
+        ever_gone(spread, width)
+    """,
+    "urns": """
+        check_urn(counts)
+        kept_out(counts, kind, many)
+        put_back(counts, kind, many)
+        with_more(counts, kind, many, more)
+        row_chance(counts, row)
+        first_of(counts, kind)
+        all_kinds(many, draws)
+        collected(many, have)
+        unlike(many, draws)
+        least_alike(many, chance)
+        bare_lots(lots, balls)
+        longest_run(many, run, yes)
+    """,
+    "trials": """
+        yes_no(many, yes)
+        at_least(spread, seen)
+        at_most(spread, seen)
+        as_unlikely(spread, seen)
+        signs_test(pairs)
+        sums_of(values, few)
+        two_lots(one, other)
+        ranks(values)
+        rank_test(one, other)
+        four_fields(a, b, c, d)
+        runs(row)
+        runs_spread(ones, others)
+        lots_of(many, few)
+        chance_bounds(many, seen, wrong, steps)
+        held_down(chances, wrong)
+        order_chances(values, test)
+    """,
 }
 
 
