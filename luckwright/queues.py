@@ -17,11 +17,10 @@ def queue(comes, goes, room):
 def slot(comes, goes, room, few):
     """Return the chances of how many wait behind a slot when few wait ahead of it."""
     row = [NOUGHT] * (room + 1)
-    one_comes = comes if few < room else NOUGHT
-    for there, chance in ((few, other_way(one_comes)), (min(few + 1, room), one_comes)):
-        one_goes = goes if there > 0 else NOUGHT
-        row[there] = plus(row[there], times(chance, other_way(one_goes)))
-        row[max(0, there - 1)] = plus(row[max(0, there - 1)], times(chance, one_goes))
+    for there, chance in ((few, other_way(comes)), (min(few + 1, room), comes)):
+        left = max(there - 1, 0)
+        row[left] = plus(row[left], times(chance, goes))
+        row[there] = plus(row[there], times(chance, other_way(goes)))
     return row
 
 

@@ -167,6 +167,49 @@ INTERFACE = {
         held_down(chances, wrong)
         order_chances(values, test)
     """,
+    "orders": """
+        check_many(many)
+        wrong_pairs(many)
+        at_home(many)
+        rings(many)
+        tops(many)
+        best_chance(many, skipped)
+        best_skipped(many)
+        longest_rise(row)
+        rise_spread(many)
+        same_ring(many)
+        all_found(many, tries)
+    """,
+    "bounds": """
+        both_bounds(one, other)
+        either_bounds(one, other)
+        table(one, other, both)
+        check_both(one, other, rows)
+        any_bounds(chances)
+        all_bounds(chances)
+        far_bound(mean, value)
+        scatter_bound(scatter, far)
+        one_side_bound(scatter, far)
+        one_side_paper(scatter, far)
+        where(both, one)
+        turned(chance, yes, no)
+        all_apart(rows)
+    """,
+    "nets": """
+        Net.__init__(rows)
+        Net.names()
+        Net.parents(name)
+        Net.chance(values)
+        Net.factors(seen)
+        Net.with_seen(name, seen)
+        Net.given(name, seen)
+        Net.likeliest(seen)
+        Net.apart(one, other, seen)
+        Net.above(name)
+        joined(factors)
+        summed_out(factor, name)
+        depends(net, one, other, seen)
+    """,
 }
 
 
