@@ -210,6 +210,66 @@ INTERFACE = {
         summed_out(factor, name)
         depends(net, one, other, seen)
     """,
+    "hidden": """
+        Hidden.__init__(first, rows, signs, letters)
+        Hidden.size()
+        Hidden.sign(place, letter)
+        Hidden.ahead(word)
+        Hidden.behind(word)
+        Hidden.chance(word)
+        Hidden.places_by(word)
+        Hidden.likeliest(word)
+        Hidden.best_to(word)
+        Hidden.way_chance(word, way)
+        max_place(parts)
+        check_way(hidden, word, way, table)
+    """,
+    "plans": """
+        Plans.__init__(places, later)
+        Plans.worth_of(place, number, values)
+        Plans.for_steps(count)
+        Plans.best_choice(place, values)
+        Plans.worth_by(numbers)
+        Plans.best()
+        check_best(plans, numbers, values)
+        stop_values(spread, steps)
+        stakes(chance, goal, rounds)
+        ruin(chance, have, goal)
+    """,
+    "couples": """
+        chances_of(spread)
+        apart(one, other)
+        lot_apart(one, other)
+        alike_table(one, other)
+        filled(left, right)
+        in_order_table(one, other)
+        check_table(one, other, rows)
+        without_nought(rows)
+        is_above(one, other)
+        check_above(one, other, rows)
+        carried(one, other)
+        steps_by(rows)
+        check_carried(one, other, rows, heights)
+        mean_of(spread, heights)
+        heights_for(one, other)
+        share_of(one, other)
+    """,
+    "samples": """
+        Figures.__init__(base, row)
+        Figures.take()
+        Figures.below(many)
+        unranked(number, many)
+        ranked(row)
+        unranked_lot(number, many, few)
+        ranked_lot(lot, many)
+        shuffled(row, figures)
+        by_weights(spread, figures)
+        alias(spread)
+        check_alias(spread, rows)
+        coins(spread, depth)
+        coin_mean(words, depth)
+        counted(draw, base, long)
+    """,
 }
 
 

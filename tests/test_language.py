@@ -17,7 +17,7 @@ LIBRARY = {
 BUILTINS = """len range enumerate zip min max sum abs sorted reversed int str bool list tuple dict set isinstance ord
     repr any all divmod map iter next ValueError KeyError IndexError""".split()
 METHODS = "__init__ __eq__ __repr__ __str__ __len__ __enter__ __exit__ __call__ __iter__".split()
-BARRED = (ast.AsyncFunctionDef, ast.Global, ast.Div, ast.MatMult, ast.NamedExpr, ast.AnnAssign, ast.Try, ast.With,
+BARRED = (ast.AsyncFunctionDef, ast.Global, ast.Div, ast.MatMult, ast.NamedExpr, ast.AnnAssign, ast.With,
           ast.Yield, ast.YieldFrom, ast.Await, ast.Set, ast.SetComp, ast.GeneratorExp)
 
 
@@ -84,6 +84,15 @@ class LanguageTest(unittest.TestCase):
     def test_barred_kinds(self):
         self.assertEqual([place for place, node in nodes(BARRED)], [])
         self.assertEqual([place for place, node in nodes(ast.Constant) if isinstance(node.value, float)], [])
+
+    def test_only_own_errors_are_caught(self):
+        own = [node.name for node in ast.parse((PACKAGE / "errors.py").read_text()).body
+               if isinstance(node, ast.ClassDef)]
+        for place, node in nodes(ast.Try):
+            self.assertEqual(node.finalbody, [], place)
+            for handler in node.handlers:
+                self.assertIsInstance(handler.type, ast.Name, place)
+                self.assertIn(handler.type.id, own, place)
 
     def test_exponents_are_written_out(self):
         for place, node in nodes(ast.BinOp):
