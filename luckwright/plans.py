@@ -1,6 +1,7 @@
 """Plans: places where one chooses how to go on and is paid, for so many steps or for ever with later pay worth less."""
 
 from luckwright.errors import BadPaper, BadTree
+from luckwright.hidden import max_place
 from luckwright.lines import by_row, solved
 from luckwright.parts import NOUGHT, ONE, check_chance, is_less, minus, part, plus, raised, times, total
 
@@ -38,12 +39,7 @@ class Plans:
 
     def best_choice(self, place, values):
         """Return the first best choice of a place when places are worth so much a step later."""
-        worths = [self.worth_of(place, number, values) for number in range(len(self.places[place]))]
-        found = 0
-        for number, worth in enumerate(worths):
-            if is_less(worths[found], worth):
-                found = number
-        return found
+        return max_place([self.worth_of(place, number, values) for number in range(len(self.places[place]))])
 
     def worth_by(self, numbers):
         """Return the tuple of what all places are worth for ever by one choice for each; BadTree for choices not there.

@@ -270,6 +270,55 @@ INTERFACE = {
         coin_mean(words, depth)
         counted(draw, base, long)
     """,
+    "beliefs": """
+        Beliefs.__init__(rows)
+        Beliefs.chance(name)
+        Beliefs.seen(chances)
+        Beliefs.before(chances)
+        Beliefs.likeliest()
+        Beliefs.mean(values)
+        Beliefs.shown()
+        after(beliefs, yes, many, good)
+        two_ways(first, second, ends, most)
+        odds(first, second, many, good)
+        next_yes(many, good)
+        two_machines(seen, left)
+        best_of(table, seen, left)
+    """,
+    "cups": """
+        check_results(table)
+        knock_out(table, draw)
+        met(rows, mine, theirs)
+        is_two(number)
+        league(table)
+        race(chance, mine, theirs)
+        fair_share(chance, mine, theirs)
+        series(chance, wins)
+        best_draw(table, one)
+    """,
+    "sums": """
+        Sum.__init__()
+        Sum.put(name, spread)
+        Sum.take(name)
+        Sum.names()
+        Sum.needed(name, goal)
+        how_many(chances)
+        from_overlaps(overlaps)
+        overlaps_of(spread, many)
+        shortfall(spread, goal)
+        least_goal(spread, chance)
+    """,
+    "desks": """
+        whole(word)
+        figure_of(text)
+        Desk.__init__()
+        Desk.say(line)
+        Desk.do(line)
+        Desk.answer(words)
+        Desk.written(words)
+        lines_of(text)
+        done_again(text)
+    """,
 }
 
 

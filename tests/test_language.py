@@ -108,6 +108,10 @@ class LanguageTest(unittest.TestCase):
             self.assertEqual([name for name in inner + outer + defs if hasattr(builtins, name)], [], path.name)
             self.assertEqual(len(defs), len(list(dict.fromkeys(defs))), path.name)
 
+    def test_one_lambda_on_a_line(self):
+        places = [place for place, node in nodes(ast.Lambda)]
+        self.assertEqual(len(places), len(set(places)))
+
     def test_builtins(self):
         for place, node in nodes(ast.Name):
             if hasattr(builtins, node.id):
